@@ -1,0 +1,1 @@
+"""Evenslices: time slices by shares."""
