@@ -19,7 +19,7 @@ def is_integer_from(value, least, most):
 
 def are_shares(value, processors, period):
     """Return whether a value is a list of shares of a load."""
-    # exactly a list: what looks like one has been passed for something else
+    # not isinstance: where the document names a list or a tuple, it means exactly this kind
     if type(value) is not list or not 1 <= len(value) <= MOST_PROCESSES:
         return False
     for share in value:
