@@ -1,10 +1,13 @@
 """Checks of parameters that several modules have in common."""
 
-from evenslices.errors import InvalidLoad, InvalidNumber, InvalidPlan, InvalidProcess
+from evenslices.errors import (
+    InvalidCounts, InvalidGroups, InvalidLoad, InvalidNumber, InvalidPlan, InvalidProcess, NotSingle,
+)
 
 MOST_PROCESSORS = 12
 MOST_PROCESSES = 12
 MOST_TICKS = 1000
+MOST_GROUPS = 20
 
 
 def is_integer(value):
@@ -23,7 +26,7 @@ def are_shares(value, processors, period):
     if type(value) is not list or not 1 <= len(value) <= MOST_PROCESSES:
         return False
     for share in value:
-        if not is_integer_from(share, 1, period):
+        if type(share) is not int or not 1 <= share <= period:
             return False
     return sum(value) <= processors * period
 
@@ -47,22 +50,28 @@ def check_process(load, process):
         raise InvalidProcess("not a process of the load")
 
 
-def check_number(value, name):
-    """Raise InvalidNumber unless the value of the parameter of this name is an integer from 0 on."""
+def check_single(load):
+    """Raise NotSingle unless a load has one processor."""
+    if load[0] != 1:
+        raise NotSingle("the load has more than one processor")
+
+
+def check_number(value, name, most=None):
+    """Raise InvalidNumber unless the value of the parameter of this name is an integer from 0 on, or from 0 to most."""
     # the value stays out of the message: Python refuses to write very long integers
-    if not is_integer(value) or value < 0:
-        raise InvalidNumber(f"{name} is not an integer from 0 on")
+    if not is_integer(value) or value < 0 or (most is not None and value > most):
+        raise InvalidNumber(f"{name} is not an integer in its range")
 
 
 def is_tick(value, processors, many):
     """Return whether a value is an ascending list of at most so many of the processes from 0 to many - 1."""
     if type(value) is not list or len(value) > processors:
         return False
-    least = 0
+    ahead = -1
     for process in value:
-        if not is_integer_from(process, least, many - 1):
+        if type(process) is not int or not ahead < process < many:
             return False
-        least = process + 1
+        ahead = process
     return True
 
 
@@ -71,6 +80,49 @@ def check_plan(load, plan):
     if type(plan) is not list or len(plan) > MOST_TICKS:
         raise InvalidPlan(None)
     processors, _, shares = load
-    for index, tick in enumerate(plan):
-        if not is_tick(tick, processors, len(shares)):
-            raise InvalidPlan(index)
+    many = len(shares)
+    ticks = iter(plan)
+    for tick in ticks:
+        # most ticks of long plans have one process: a call for each of them would take longer than all the rest
+        if type(tick) is list and len(tick) == 1:
+            process = tick[0]
+            if type(process) is int and 0 <= process < many:
+                continue
+        if not is_tick(tick, processors, many):
+            break
+    else:
+        return
+    # the index is told by what is left, as counting along would take time in plans that are right
+    raise InvalidPlan(len(plan) - len(list(ticks)) - 1)
+
+
+def stands_apart(mask, others):
+    """Return whether a set of processes, as bits, is within each other one, around it, or without a common process."""
+    return all([mask & other in (0, mask, other) for other in others])
+
+
+def check_groups(load, groups):
+    """Raise InvalidGroups unless a value is groups of a load."""
+    if type(groups) is not list or len(groups) > MOST_GROUPS:
+        raise InvalidGroups(None)
+    many = len(load[2])
+    masks = []
+    for index, group in enumerate(groups):
+        if not is_tick(group, many, many) or not group:
+            raise InvalidGroups(index)
+        mask = sum([1 << process for process in group])
+        if mask in masks or not stands_apart(mask, masks):
+            raise InvalidGroups(index)
+        masks.append(mask)
+
+
+def check_counts(load, moment, counts):
+    """Raise InvalidCounts unless each process of a load has a count: its due at a moment, rounded down or up."""
+    _, period, shares = load
+    if type(counts) is not list or len(counts) != len(shares):
+        raise InvalidCounts(None)
+    if not all([is_integer(count) for count in counts]):
+        raise InvalidCounts(None)
+    for index, (share, count) in enumerate(zip(shares, counts)):
+        if abs(share * moment - period * count) >= period:
+            raise InvalidCounts(index)

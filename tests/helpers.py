@@ -1,6 +1,8 @@
 """What several tests use."""
 
-from itertools import combinations
+from fractions import Fraction
+from itertools import combinations, product
+from math import ceil, floor
 
 from evenslices import errors
 
@@ -76,3 +78,79 @@ def run_example(test, names, code, told):
                 test.assertEqual(outcome(eval, code, names), [wanted.__class__, vars(wanted)])
         else:
             test.assertEqual(repr(eval(code, names)), told)
+
+
+def small_loads(processors, period, many):
+    """Return all loads with so many processors, a period up to this one and up to so many processes."""
+    found = []
+    for length in range(1, period + 1):
+        for size in range(1, many + 1):
+            for shares in product(range(1, length + 1), repeat=size):
+                if sum(shares) <= processors * length:
+                    found.append((processors, length, list(shares)))
+    return found
+
+
+def drawn_load(draw, processors, period, many):
+    """Return a drawn load with at most so many processors and processes and at most this period, often a full one."""
+    while True:
+        size, length, room = draw.randint(1, many), draw.randint(1, period), draw.randint(1, processors)
+        shares = [draw.randint(1, length) for _ in range(size)]
+        if draw.random() < 0.6:
+            shares[-1] = room * length - sum(shares[:-1])
+        if 1 <= shares[-1] <= length and sum(shares) <= room * length:
+            return room, length, shares
+
+
+def drawn_groups(draw, many):
+    """Return drawn groups of a load with so many processes: some sets of a drawn tree."""
+    found, left = [], [list(range(many))]
+    while left:
+        members = left.pop()
+        if draw.random() < 0.7:
+            found.append(sorted(members))
+        if len(members) > 1:
+            draw.shuffle(members)
+            cut = draw.randint(1, len(members) - 1)
+            left += [members[:cut], members[cut:]]
+    draw.shuffle(found)
+    return found[:20]
+
+
+def due_ends(share, period, moment):
+    """Return what is due at a moment, rounded down and up."""
+    due = Fraction(share * moment, period)
+    return floor(due), ceil(due)
+
+
+def is_round(load, plan):
+    """Return whether a list of ticks is a round plan, by point 5 and fractions."""
+    processors, period, shares = load
+    if len(plan) != period:
+        return False
+    for tick in plan:
+        if tick != sorted(set(tick)) or len(tick) > processors or not set(tick) <= set(range(len(shares))):
+            return False
+    for moment in range(period + 1):
+        for process, share in enumerate(shares):
+            count = sum(tick.count(process) for tick in plan[:moment])
+            if not -1 < Fraction(share * moment, period) - count < 1:
+                return False
+    return True
+
+
+def round_plans(load):
+    """Return all round plans of a small load, by going along with all ticks."""
+    processors, period, shares = load
+    ticks = [list(tick) for size in range(processors + 1) for tick in combinations(range(len(shares)), size)]
+    plans = [([], (0,) * len(shares))]
+    for moment in range(1, period + 1):
+        ends = [due_ends(share, period, moment) for share in shares]
+        longer = []
+        for plan, counts in plans:
+            for tick in ticks:
+                told = tuple(count + (process in tick) for process, count in enumerate(counts))
+                if all(least <= count <= most for count, (least, most) in zip(told, ends)):
+                    longer.append((plan + [tick], told))
+        plans = longer
+    return [plan for plan, _ in plans]

@@ -32,9 +32,52 @@ PLANS = """
 [33333333333333333333, [0]]
 """
 
+GROUPS = """
+>>> from evenslices.groups import first_breach, group_bounds, group_plan, is_groups, slice_plan
+>>> four = (2, 4, [2, 2, 2, 2])
+>>> [group_bounds((2, 5, [3, 3, 2, 2]), [[0, 1], [2, 3], [0]]), is_groups(four, [[0, 1], [1, 2]])]
+[[(1, 2), (0, 1), (0, 1)], False]
+>>> [first_breach(four, [[0, 1], [2, 3]], [[0, 2], [0, 1]]), first_breach(four, [[0, 1], [2, 3]], group_plan(four, [[0, 1], [2, 3]]))]
+[(1, 0), None]
+>>> slice_plan(three, [], 2, 0, 4)[4]
+[2]
+"""
+
+CASES = """
+>>> from evenslices.cases import is_way, need_of, shows_stuck, stuck_ticks, way_of
+>>> [way_of(three, 0, [0, 0, 0], [1, 0, 1], []), way_of(three, 0, [0, 0, 0], [0, 1, 1], [(1, 0)]), way_of(dull, 2, [0, 0, 1, 1], [1], [])]
+[[[0], [], [1]], None, None]
+>>> [[need_of(dull, 2, [0, 0, 1, 1], [1], [], process, [2]) for process in range(4)], shows_stuck(dull, 2, [0, 0, 1, 1], [1], [], [2])]
+[[1, 1, 0, 0], True]
+>>> [stuck_ticks(three, 0, [0, 0, 0], [0, 1, 1], [(1, 0)]) is None, shows_stuck(three, 0, [0, 0, 0], [1, 1], [(0, 0), (1, 0)], [])]
+[False, True]
+>>> is_way(three, 0, [0, 0, 0], [1, 0, 1], [], [[0], [], [1]])
+True
+"""
+
+STATES = """
+>>> from evenslices.states import can_be_reached, can_go_on, doomed_by, is_state, states_at, too_many_since
+>>> [can_go_on(dull, 2, [0, 0, 1, 1]), can_be_reached(dull, 2, [0, 0, 1, 1]), doomed_by(dull, 2, [0, 0, 1, 1]), states_at(three, 2)]
+[False, True, 3, [[1, 0, 1], [1, 1, 0]]]
+>>> [too_many_since(dull, 6, [3, 3, 0, 0]), is_state(three, 6 * 10 ** 20 + 2, [3 * 10 ** 20 + 1, 2 * 10 ** 20, 10 ** 20 + 1])]
+[5, True]
+"""
+
+ROWS = """
+>>> from evenslices.rows import early_plan, early_tick, filled, full_stretch, straight_plan, straight_tick
+>>> [[early_tick(five, 0, number) for number in range(4)], [straight_tick(five, 0, 5, number) for number in range(4)]]
+[[0, 2, 5, 7], [1, 3, 6, 8]]
+>>> [straight_tick(five, 0, 0, 10 ** 20), straight_tick((1, 10 ** 29, [7]), 0, 3, 10 ** 20)]
+[250000000000000000002, 1428571428571428571442857142857142857142857142856]
+>>> [full_stretch(five, 0, [0, 4, 5, 7]), filled(five, 0, [0, 4, 5, 7]), full_stretch(five, 0, [2, 4, 7, 9])]
+[(4, 6), None, None]
+>>> [tick for tick, row in enumerate(early_plan(five, 0)) if row == [0]]
+[0, 2, 5, 7]
+"""
+
 
 class Examples(unittest.TestCase):
     def test_examples(self):
         names = {}
-        for text in [SHARED, LOADS, PLANS]:
+        for text in [SHARED, LOADS, PLANS, GROUPS, CASES, STATES, ROWS]:
             run_examples(self, names, text)

@@ -4,23 +4,48 @@ import copy
 import inspect
 import unittest
 
-from evenslices import errors, loads, plans
+from evenslices import cases, errors, groups, loads, plans, rows, states
 from tests.helpers import BIG, NO_LISTS, NO_LOADS, NO_NUMBERS, NO_PLANS, choices, outcome
 
 FOUR = (2, 4, [2, 2, 2, 2])
+DULL = (1, 8, [3, 3, 1, 1])
 ROUND = [[0, 1], [2, 3], [0, 2], [1, 3]]
 
 RIGHT = {
     "load": FOUR, "process": 3, "moment": 5, "number": 6, "tick": 7, "begin": 1, "end": 9, "plan": ROUND, "value": None,
+    "groups": [[0, 1], [2, 3], [3]], "counts": [1, 1, 0, 0], "caps": [2, 2, 1], "asleep": [(2, 0)], "ticks": [1, 3],
+    "shift": 7,
 }
+
+# right values for functions that want other ones
+OTHER = {
+    groups.slice_plan: {"number": 1, "tick": 2},
+    **{function: {"load": DULL, "counts": [2, 2, 1, 0]} for function in [
+        states.can_go_on, states.can_be_reached, states.is_state, states.doomed_by, states.too_many_since,
+        states.states_at,
+    ]},
+    **{function: {"load": DULL, "ticks": [4]} for function in [
+        rows.early_tick, rows.straight_tick, rows.early_plan, rows.straight_plan, rows.filled, rows.full_stretch,
+    ]},
+}
+
+# values with which the functions for one processor are called with a load for two
+TWO_PROCESSORS = {"load": (2, 4, [3, 2, 2, 1]), "moment": 1, "counts": [1, 0, 1, 0], "ticks": [3], "shift": 3}
 
 # a wrong value for each parameter that can be wrong, with the error
 WRONG = {
     "load": ((1, 6, [0]), [errors.InvalidLoad, {"index": 2}]),
     "process": (4, [errors.InvalidProcess, {}]),
     "plan": ([[0], [4]], [errors.InvalidPlan, {"index": 1}]),
-    **{name: (-1, [errors.InvalidNumber, {}]) for name in ["moment", "number", "tick", "begin", "end"]},
+    "groups": ([[0, 1], [1, 2]], [errors.InvalidGroups, {"index": 1}]),
+    "counts": ([1, 1, 99, 0], [errors.InvalidCounts, {"index": 2}]),
+    "caps": ([2, 3, 1], [errors.InvalidCaps, {"index": 1}]),
+    "asleep": ([(2, 0), (2, 4)], [errors.InvalidAsleep, {"index": 1}]),
+    "ticks": ([99], [errors.InvalidTicks, {"index": 0}]),
+    **{name: (-1, [errors.InvalidNumber, {}]) for name in ["moment", "number", "tick", "begin", "end", "shift"]},
 }
+
+CASE = ["load", "begin", "counts", "caps", "asleep"]
 
 SIGNATURES = {
     loads.is_load: ["value"],
@@ -39,12 +64,43 @@ SIGNATURES = {
     plans.rests_of: ["load", "plan"],
     plans.far_count: ["load", "plan", "process", "moment"],
     plans.far_tick: ["load", "plan", "tick"],
+    groups.is_groups: ["load", "value"],
+    groups.group_bounds: ["load", "groups"],
+    groups.first_breach: ["load", "groups", "plan"],
+    groups.group_plan: ["load", "groups"],
+    groups.slice_plan: ["load", "groups", "process", "number", "tick"],
+    cases.is_way: [*CASE, "value"],
+    cases.way_of: CASE,
+    cases.need_of: [*CASE, "process", "ticks"],
+    cases.stuck_ticks: CASE,
+    cases.shows_stuck: [*CASE, "value"],
+    states.can_go_on: ["load", "moment", "counts"],
+    states.can_be_reached: ["load", "moment", "counts"],
+    states.is_state: ["load", "moment", "counts"],
+    states.doomed_by: ["load", "moment", "counts"],
+    states.too_many_since: ["load", "moment", "counts"],
+    states.states_at: ["load", "moment"],
+    rows.early_tick: ["load", "process", "number"],
+    rows.straight_tick: ["load", "process", "shift", "number"],
+    rows.early_plan: ["load", "process"],
+    rows.straight_plan: ["load", "process", "shift"],
+    rows.filled: ["load", "process", "ticks"],
+    rows.full_stretch: ["load", "process", "ticks"],
 }
 
+SINGLE = [function for function in SIGNATURES if OTHER.get(function, {}).get("load") == DULL]
 
-def arguments(names, **other):
-    """Return right values for the names, other ones where they are given."""
-    return {name: copy.deepcopy(other.get(name, RIGHT[name])) for name in names}
+
+def arguments(function, **other):
+    """Return right values for a function, other ones where they are given."""
+    right = {**RIGHT, **OTHER.get(function, {}), **other}
+    return {name: copy.deepcopy(right[name]) for name in SIGNATURES[function]}
+
+
+def lists_in(value):
+    """Return all lists within a value, itself included."""
+    inner = [found for part in value for found in lists_in(part)] if isinstance(value, (list, tuple)) else []
+    return ([value] if isinstance(value, list) else []) + inner
 
 
 class Interface(unittest.TestCase):
@@ -54,30 +110,44 @@ class Interface(unittest.TestCase):
                 self.assertEqual(list(inspect.signature(function).parameters), names)
 
     def test_by_position_and_by_name(self):
-        for function, names in SIGNATURES.items():
+        for function in SIGNATURES:
             with self.subTest(function=function.__name__):
-                values = arguments(names)
+                values = arguments(function)
                 self.assertEqual(function(*values.values()), function(**values))
 
     def test_equal_results_and_arguments_as_they_were(self):
-        for function, names in SIGNATURES.items():
+        for function in SIGNATURES:
             with self.subTest(function=function.__name__):
-                values = arguments(names)
+                values = arguments(function)
                 first = function(**values)
                 self.assertEqual(function(**values), first)
-                self.assertEqual(function(**arguments(names)), first)
-                self.assertEqual(values, arguments(names))
+                self.assertEqual(function(**arguments(function)), first)
+                self.assertEqual(values, arguments(function))
 
     def test_arguments_as_they_were_behind_an_error(self):
         for function, names in SIGNATURES.items():
             for wrong in [name for name in names if name in WRONG]:
                 with self.subTest(function=function.__name__, wrong=wrong):
-                    values = arguments(names, **{wrong: WRONG[wrong][0]})
+                    values = arguments(function, **{wrong: WRONG[wrong][0]})
                     outcome(function, **values)
-                    self.assertEqual(values, arguments(names, **{wrong: WRONG[wrong][0]}))
+                    self.assertEqual(values, arguments(function, **{wrong: WRONG[wrong][0]}))
 
 
 class NewLists(unittest.TestCase):
+    def test_returned_lists_are_new_inner_ones_too(self):
+        for function in SIGNATURES:
+            with self.subTest(function=function.__name__):
+                values = arguments(function)
+                told = function(**values)
+                found, given = lists_in(told), lists_in(list(values.values()))
+                self.assertEqual(len(set(map(id, found))), len(found))
+                self.assertFalse(set(map(id, found)) & set(map(id, given)))
+                kept = copy.deepcopy(told)
+                for part in found:
+                    part.append(99)
+                self.assertEqual(values, arguments(function))
+                self.assertEqual(function(**values), kept)
+
     def test_lists_can_be_changed_without_harm(self):
         for function in [plans.counts_of, plans.lag_numbers, plans.rests_of]:
             with self.subTest(function=function.__name__):
@@ -119,7 +189,7 @@ class WrongParameters(unittest.TestCase):
             if parameter not in names:
                 continue
             with self.subTest(function=function.__name__, parameter=parameter, value=value):
-                values = arguments(names)
+                values = arguments(function)
                 values[parameter] = value
                 self.assertEqual(outcome(function, **values), wanted)
                 self.assertEqual(outcome(function, *values.values()), wanted)
@@ -137,9 +207,65 @@ class WrongParameters(unittest.TestCase):
             self.check("plan", value, [errors.InvalidPlan, {"index": index}])
 
     def test_numbers(self):
-        for parameter in ["moment", "number", "tick", "begin", "end"]:
+        for parameter in ["moment", "number", "tick", "begin", "end", "shift"]:
             for value in NO_NUMBERS:
                 self.check(parameter, value, [errors.InvalidNumber, {}])
+
+    def test_groups(self):
+        for value, index in [(None, None), ([[0]] * 21, None), ([[4]], 0), ([[0], [0]], 1), ([[0, 1], [1, 2]], 1)]:
+            self.check("groups", value, [errors.InvalidGroups, {"index": index}])
+
+    def test_counts(self):
+        wrong = [
+            *[(value, None) for value in [*NO_LISTS, (1, 1, 0, 0), [], [1, 1, 0], [1, 1, 0, 0, 0]]],
+            *[([1, value, 0, 0], None) for value in [None, True, False, "1", [1], (1,), {}]],
+            ([99, 1, 0, None], None), ([None, 99, 0, 0], None),
+            *[([value, 1, 0, 0], 0) for value in [-1, 3, BIG, -BIG, 10 ** 5000]],
+            *[([1, value, 99, 0], 1) for value in [-1, 3]],
+            *[([1, 1, 1, value], 3) for value in [-1, 2]],
+        ]
+        for value, index in wrong:
+            self.check("counts", value, [errors.InvalidCounts, {"index": index}])
+
+    def test_counts_where_the_due_is_a_whole_number(self):
+        for index in range(4):
+            for step in [-1, 1]:
+                counts = [6, 6, 2, 2]
+                counts[index] += step
+                wanted = [errors.InvalidCounts, {"index": index}]
+                self.assertEqual(outcome(states.is_state, DULL, 16, counts), wanted)
+                self.assertEqual(outcome(cases.way_of, DULL, 16, counts, [1], []), wanted)
+        self.assertIs(states.is_state(DULL, 16, [6, 6, 2, 2]), True)
+        self.assertEqual(cases.way_of(DULL, 16, [6, 6, 2, 2], [0], []), [[]])
+
+    def test_caps(self):
+        wrong = [
+            *[(value, None) for value in [*NO_LISTS, (2, 2, 1), [], [1] * 61, [None] * 61]],
+            *[([value], 0) for value in [None, True, False, -1, 3, BIG, 10 ** 5000, "1", [1], (1,), {}]],
+            *[([0, 1, 2, value, None], 3) for value in [True, -1, 3, None]],
+            ([2] * 59 + [3], 59),
+        ]
+        for value, index in wrong:
+            self.check("caps", value, [errors.InvalidCaps, {"index": index}])
+
+    def test_asleep(self):
+        wrong = [
+            *[(value, None) for value in [*NO_LISTS, ((2, 0),), [(2, 0)] * 201, [None] * 201]],
+            *[([value], 0) for value in [None, True, 2, "20", [], [2, 0], {}, (), (2,), (2, 0, 0), (2, None)]],
+            ([("2", 0)], 0),
+            *[([value], 0) for value in [(0, 0), (4, 0), (-1, 0), (BIG, 0), (1, 4), (1, -1), (True, 0), (2, False)]],
+            *[([(2, 1), value, None], 1) for value in [(2, 1), (2, 0), (1, 3), (4, 0), (3, 4), None, (3,), [3, 0]]],
+            *[([(2, 1)] * many, 1) for many in [2, 200]],
+            ([(1, 0), (1, 3), (2, 0), (3, 3), (3, 3)], 4),
+        ]
+        for value, index in wrong:
+            self.check("asleep", value, [errors.InvalidAsleep, {"index": index}])
+
+    def test_right_edges_of_a_case(self):
+        self.assertEqual(len(cases.way_of(FOUR, 0, [0, 0, 0, 0], [2] * 60, [])), 60)
+        every = [(tick, process) for tick in range(50) for process in range(4)]
+        self.assertIsNone(cases.way_of(FOUR, 0, [0, 0, 0, 0], [2] * 60, every))
+        self.assertEqual(cases.way_of((3, 8, [1] * 4), 1, [0, 0, 0, 0], [0], [(1, 0), (1, 3)]), [[]])
 
     def test_very_long_integers(self):
         self.check("process", 10 ** 5000, [errors.InvalidProcess, {}])
@@ -150,7 +276,7 @@ class WrongParameters(unittest.TestCase):
         for function, names in SIGNATURES.items():
             for wrong in choices([name for name in names if name in WRONG]):
                 with self.subTest(function=function.__name__, wrong=wrong):
-                    values = arguments(names, **{name: WRONG[name][0] for name in wrong})
+                    values = arguments(function, **{name: WRONG[name][0] for name in wrong})
                     self.assertEqual(outcome(function, **values), WRONG[wrong[0]][1])
 
     def test_the_first_wrong_item_of_a_load_counts(self):
@@ -174,6 +300,26 @@ class WrongParameters(unittest.TestCase):
 
 
 class OrderBehindParameters(unittest.TestCase):
+    def test_not_single_is_behind_the_parameters(self):
+        self.assertEqual(len(SINGLE), 12)
+        for function in SINGLE:
+            with self.subTest(function=function.__name__):
+                self.assertEqual(outcome(function, **arguments(function, **TWO_PROCESSORS)), [errors.NotSingle, {}])
+            for wrong in choices([name for name in SIGNATURES[function] if name in WRONG]):
+                with self.subTest(function=function.__name__, wrong=wrong):
+                    values = {**TWO_PROCESSORS, **{name: WRONG[name][0] for name in wrong}}
+                    self.assertEqual(outcome(function, **arguments(function, **values)), WRONG[wrong[0]][1])
+
+    def test_not_in_window_is_behind_the_parameters(self):
+        function = groups.slice_plan
+        for number, tick in [(0, 2), (1, 1), (1, 4), (0, BIG)]:
+            values = {"number": number, "tick": tick}
+            self.assertEqual(outcome(function, **arguments(function, **values)), [errors.NotInWindow, {}])
+            for wrong in choices(SIGNATURES[function]):
+                with self.subTest(number=number, tick=tick, wrong=wrong):
+                    mixed = {**values, **{name: WRONG[name][0] for name in wrong}}
+                    self.assertEqual(outcome(function, **arguments(function, **mixed)), WRONG[wrong[0]][1])
+
     def test_not_full_is_ahead_of_no_rest(self):
         cases = {
             (1, 6, (6,)): errors.NoRest, (2, 6, (6,)): errors.NotFull, (2, 6, (6, 5)): errors.NotFull,
@@ -190,10 +336,10 @@ class OrderBehindParameters(unittest.TestCase):
             names = SIGNATURES[function]
             for plan in [[], [[0, 1]], ROUND + [[0, 1]], [[0, 1]] * 4]:
                 with self.subTest(function=function.__name__, plan=plan):
-                    self.assertEqual(outcome(function, **arguments(names, plan=plan)), [errors.NotRound, {}])
+                    self.assertEqual(outcome(function, **arguments(function, plan=plan)), [errors.NotRound, {}])
                 for wrong in choices([name for name in names if name != "plan"]):
                     with self.subTest(function=function.__name__, plan=plan, wrong=wrong):
-                        values = arguments(names, plan=plan, **{name: WRONG[name][0] for name in wrong})
+                        values = arguments(function, plan=plan, **{name: WRONG[name][0] for name in wrong})
                         self.assertEqual(outcome(function, **values), WRONG[wrong[0]][1])
 
 
