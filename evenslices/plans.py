@@ -116,9 +116,11 @@ def rests_of(load, plan):
     rests = []
     for tick in plan:
         key = tuple(tick)
-        if key not in known:
-            known[key] = [process for process in range(len(load[2])) if process not in tick]
-        rests.append(known[key][:])
+        rest = known.get(key)
+        if rest is None:
+            rest = [process for process in range(len(load[2])) if process not in tick]
+            known[key] = rest
+        rests.append(rest[:])
     return rests
 
 
