@@ -4,10 +4,10 @@ Inside this module ticks are counted from the beginning of the case.
 """
 
 from evenslices.checks import (
-    check_counts, check_load, check_number, check_process, is_integer_from, is_tick,
+    check_counts, check_load, check_number, check_process, first_wrong_pair, is_integer_from, is_tick,
 )
 from evenslices.errors import InvalidAsleep, InvalidCaps, InvalidTicks
-from evenslices.fitting import Task, fitted
+from evenslices.fitting import Task, fitted, most_at
 from evenslices.loads import rounded_up
 
 MOST_CAPS = 60
@@ -23,22 +23,13 @@ def check_caps(load, caps):
             raise InvalidCaps(index)
 
 
-def is_cell(value, begin, end, many):
-    """Return whether a value is a tuple (tick, process) of a case with so many processes."""
-    if type(value) is not tuple or len(value) != 2:
-        return False
-    tick, process = value
-    return is_integer_from(tick, begin, end - 1) and is_integer_from(process, 0, many - 1)
-
-
 def check_asleep(load, begin, caps, asleep):
     """Raise InvalidAsleep unless a value tells who is asleep when in a case."""
     if type(asleep) is not list or len(asleep) > MOST_SLEEPERS:
         raise InvalidAsleep(None)
-    end = begin + len(caps)
-    for index, cell in enumerate(asleep):
-        if not is_cell(cell, begin, end, len(load[2])) or (index > 0 and cell <= asleep[index - 1]):
-            raise InvalidAsleep(index)
+    index = first_wrong_pair(asleep, begin, begin + len(caps), len(load[2]))
+    if index is not None:
+        raise InvalidAsleep(index)
 
 
 def check_case(load, begin, counts, caps, asleep):
@@ -129,22 +120,6 @@ def stuck_ticks(load, begin, counts, caps, asleep):
     return None if ticks is None else [begin + tick for tick in ticks]
 
 
-def most_outside(windows, ticks):
-    """Return how many slices with these windows can be at the ticks, at most one at each.
-
-    Windows and ticks are ascending. At each tick it is the first slice that can be there and is not yet anywhere.
-    """
-    found = 0
-    at = 0
-    for tick in ticks:
-        while at < len(windows) and windows[at][1] < tick:
-            at += 1
-        if at < len(windows) and windows[at][0] <= tick:
-            at += 1
-            found += 1
-    return found
-
-
 def plain_need(load, begin, counts, caps, asleep, process, ticks):
     """Return the need of a process for ticks, of a case that is right."""
     many = len(caps)
@@ -152,7 +127,7 @@ def plain_need(load, begin, counts, caps, asleep, process, ticks):
     must = [(first, last) for first, last in windows if last < many]
     taken = [tick for tick, sleeper in asleep if sleeper == process]
     outside = [tick for tick in range(many) if begin + tick not in ticks and begin + tick not in taken]
-    return len(must) - most_outside(must, outside)
+    return len(must) - most_at(must, outside)
 
 
 def need_of(load, begin, counts, caps, asleep, process, ticks):

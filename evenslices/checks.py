@@ -1,13 +1,14 @@
 """Checks of parameters that several modules have in common."""
 
 from evenslices.errors import (
-    InvalidCounts, InvalidGroups, InvalidLoad, InvalidNumber, InvalidPlan, InvalidProcess, NotSingle,
+    InvalidCounts, InvalidGroups, InvalidLoad, InvalidNumber, InvalidPairs, InvalidPlan, InvalidProcess, NotSingle,
 )
 
 MOST_PROCESSORS = 12
 MOST_PROCESSES = 12
 MOST_TICKS = 1000
 MOST_GROUPS = 20
+MOST_PAIRS = 300
 
 
 def is_integer(value):
@@ -56,10 +57,10 @@ def check_single(load):
         raise NotSingle("the load has more than one processor")
 
 
-def check_number(value, name, most=None):
-    """Raise InvalidNumber unless the value of the parameter of this name is an integer from 0 on, or from 0 to most."""
+def check_number(value, name, most=None, least=0):
+    """Raise InvalidNumber unless the value of the parameter of this name is an integer from least on, or to most."""
     # the value stays out of the message: Python refuses to write very long integers
-    if not is_integer(value) or value < 0 or (most is not None and value > most):
+    if not is_integer(value) or value < least or (most is not None and value > most):
         raise InvalidNumber(f"{name} is not an integer in its range")
 
 
@@ -114,6 +115,31 @@ def check_groups(load, groups):
         if mask in masks or not stands_apart(mask, masks):
             raise InvalidGroups(index)
         masks.append(mask)
+
+
+def is_pair(value, begin, end, many):
+    """Return whether a value is a tuple (tick, process), the tick from begin to end - 1, the process one of so many."""
+    if type(value) is not tuple or len(value) != 2:
+        return False
+    tick, process = value
+    return is_integer_from(tick, begin, end - 1) and is_integer_from(process, 0, many - 1)
+
+
+def first_wrong_pair(values, begin, end, many):
+    """Return the index of the first item that is no tuple (tick, process) greater than the one ahead, or None."""
+    for index, value in enumerate(values):
+        if not is_pair(value, begin, end, many) or (index > 0 and value <= values[index - 1]):
+            return index
+    return None
+
+
+def check_pairs(load, pairs):
+    """Raise InvalidPairs unless a value is an ascending list of tuples (tick, process) of one round."""
+    if type(pairs) is not list or len(pairs) > MOST_PAIRS:
+        raise InvalidPairs(None)
+    index = first_wrong_pair(pairs, 0, load[1], len(load[2]))
+    if index is not None:
+        raise InvalidPairs(index)
 
 
 def check_counts(load, moment, counts):

@@ -174,6 +174,22 @@ def fitted(task):
     return None, fit.full_ticks(stuck)
 
 
+def most_at(windows, ticks):
+    """Return how many slices with these windows can be at the ticks, at most one at each.
+
+    Windows and ticks are ascending. At each tick it is the first slice that can be there and is not yet anywhere.
+    """
+    found = 0
+    at = 0
+    for tick in ticks:
+        while at < len(windows) and windows[at][1] < tick:
+            at += 1
+        if at < len(windows) and windows[at][0] <= tick:
+            at += 1
+            found += 1
+    return found
+
+
 def slice_windows(share, period):
     """Return the windows of all slices of one round of a process."""
     return [

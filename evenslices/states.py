@@ -1,6 +1,7 @@
 """States: the counts on one processor that can be reached, and with which the processes can go on."""
 
 from evenslices.checks import check_counts, check_load, check_number, check_single
+from evenslices.lagging import failing
 from evenslices.loads import rounded_up
 
 
@@ -15,18 +16,8 @@ def check_state(load, moment, counts):
 def doom(load, moment, counts):
     """Return how many ticks behind a moment there are too few for all slices whose windows end in them, or None."""
     _, period, shares = load
-    ends = [0] * (period + 1)
-    for share, count in zip(shares, counts):
-        # the due at the moment and period ticks later differ by the share
-        behind = share * moment // period + share
-        for number in range(count + 1, behind + 1):
-            ends[rounded_up(number * period, share) - moment] += 1
-    total = 0
-    for ticks, number in enumerate(ends):
-        total += number
-        if total > ticks:
-            return ticks
-    return None
+    lags = [share * moment - period * count for share, count in zip(shares, counts)]
+    return failing(lags, shares, period, period)
 
 
 def crowd(load, moment, counts):

@@ -75,9 +75,52 @@ ROWS = """
 [0, 2, 5, 7]
 """
 
+COUNTING = """
+>>> from evenslices.counting import count_plans, count_states, count_two, count_with, least_pairs, least_plan, most_pairs, nth_plan, plan_number, window_lengths
+>>> [count_plans(load) for load in [three, pair, (1, 5, [2, 3]), (1, 4, [1, 1, 1, 1]), (1, 4, [2, 2])]]
+[16, 6, 8, 24, 4]
+>>> [least_plan(three), plan_number(three, [[0], [1], [0], [1], [0], [2]]), nth_plan(three, 15)[:2]]
+[[[0], [1], [0], [1], [0], [2]], 0, [[2], [0]]]
+>>> [count_with(three, 2, 0, 0), count_states(three, 2), most_pairs(pair, [], [(0, 0), (0, 1)]), least_pairs(pair, [], [(0, 0), (0, 1)])]
+[2, 2, 2, 1]
+>>> [count_two(part, period) for part, period in [(3, 8), (3, 7), (2, 4), (1, 9)]] + [window_lengths(3, 8)]
+[30, 21, 4, 9, [3, 4, 3]]
+"""
+
+CHANGES = """
+>>> from evenslices.changes import can_change, failing_moment, newcomer_share, plan_on
+>>> [failing_moment(8, [6, 6, -6, -6], 8, [3, 3, 1, 1]), can_change(2, [1, -1], 3, [1, 2]), can_change(2, [1, 1], 2, [1, 1])]
+[1, True, False]
+>>> [newcomer_share(1, [0, 0], 6, [2, 3]), newcomer_share(8, [6], 8, [3]), newcomer_share(2, [1, 1], 2, [1, 1])]
+[1, 5, None]
+>>> plan_on(2, [1, -1], 3, [3, 0], 3)
+[[0], [0], [0]]
+"""
+
+LIMITS = """
+>>> from evenslices.limits import least_limit, limit_plan, limit_ticks, limit_window, shows_limit
+>>> [least_limit(load) for load in [(1, 5, [2, 3]), (1, 4, [1, 1, 1, 1]), pair, three]]
+[2, 3, 2, 3]
+>>> [limit_plan((1, 5, [2, 3]), 2), limit_window((1, 5, [2, 3]), 0, 1, 2), limit_window((1, 5, [2, 3]), 0, 0, 1)]
+[[[1], [0], [1], [0], [1]], (3, 3), (1, 0)]
+>>> [limit_plan((1, 5, [2, 3]), 1), shows_limit((1, 5, [2, 3]), 1, []), shows_limit((1, 5, [2, 3]), 2, [0])]
+[None, True, False]
+"""
+
+SEEN = """
+>>> from evenslices.seen import can_be, fit_together, least_period, share_ends, shares_for
+>>> seen = [[0], [1], [0]]
+>>> [share_ends(1, 2, seen), least_period(1, 2, seen, 9), shares_for(1, 2, seen, 9)]
+[[((1, 3), (1, 1)), ((0, 1), (2, 3))], 2, [1, 1]]
+>>> [can_be(1, 2, [[0], [0], [1], [1], [1], [1]]), can_be(1, 1, [[0], [0]]), can_be(1, 1, [[0], []])]
+[False, True, False]
+>>> [fit_together(1, 2, [[0], [0], [1]], [[1], [1], [0]]), fit_together(1, 2, seen, [[1], [0]]), least_period(1, 2, [[0], [0], [1]], 9)]
+[False, True, 3]
+"""
+
 
 class Examples(unittest.TestCase):
     def test_examples(self):
         names = {}
-        for text in [SHARED, LOADS, PLANS, GROUPS, CASES, STATES, ROWS]:
+        for text in [SHARED, LOADS, PLANS, GROUPS, CASES, STATES, ROWS, COUNTING, CHANGES, LIMITS, SEEN]:
             run_examples(self, names, text)

@@ -4,104 +4,11 @@ import copy
 import inspect
 import unittest
 
-from evenslices import cases, errors, groups, loads, plans, rows, states
+from evenslices import cases, counting, errors, groups, limits, loads, plans, states
 from tests.helpers import BIG, NO_LISTS, NO_LOADS, NO_NUMBERS, NO_PLANS, choices, outcome
-
-FOUR = (2, 4, [2, 2, 2, 2])
-DULL = (1, 8, [3, 3, 1, 1])
-ROUND = [[0, 1], [2, 3], [0, 2], [1, 3]]
-
-RIGHT = {
-    "load": FOUR, "process": 3, "moment": 5, "number": 6, "tick": 7, "begin": 1, "end": 9, "plan": ROUND, "value": None,
-    "groups": [[0, 1], [2, 3], [3]], "counts": [1, 1, 0, 0], "caps": [2, 2, 1], "asleep": [(2, 0)], "ticks": [1, 3],
-    "shift": 7,
-}
-
-# right values for functions that want other ones
-OTHER = {
-    groups.slice_plan: {"number": 1, "tick": 2},
-    **{function: {"load": DULL, "counts": [2, 2, 1, 0]} for function in [
-        states.can_go_on, states.can_be_reached, states.is_state, states.doomed_by, states.too_many_since,
-        states.states_at,
-    ]},
-    **{function: {"load": DULL, "ticks": [4]} for function in [
-        rows.early_tick, rows.straight_tick, rows.early_plan, rows.straight_plan, rows.filled, rows.full_stretch,
-    ]},
-}
-
-# values with which the functions for one processor are called with a load for two
-TWO_PROCESSORS = {"load": (2, 4, [3, 2, 2, 1]), "moment": 1, "counts": [1, 0, 1, 0], "ticks": [3], "shift": 3}
-
-# a wrong value for each parameter that can be wrong, with the error
-WRONG = {
-    "load": ((1, 6, [0]), [errors.InvalidLoad, {"index": 2}]),
-    "process": (4, [errors.InvalidProcess, {}]),
-    "plan": ([[0], [4]], [errors.InvalidPlan, {"index": 1}]),
-    "groups": ([[0, 1], [1, 2]], [errors.InvalidGroups, {"index": 1}]),
-    "counts": ([1, 1, 99, 0], [errors.InvalidCounts, {"index": 2}]),
-    "caps": ([2, 3, 1], [errors.InvalidCaps, {"index": 1}]),
-    "asleep": ([(2, 0), (2, 4)], [errors.InvalidAsleep, {"index": 1}]),
-    "ticks": ([99], [errors.InvalidTicks, {"index": 0}]),
-    **{name: (-1, [errors.InvalidNumber, {}]) for name in ["moment", "number", "tick", "begin", "end", "shift"]},
-}
-
-CASE = ["load", "begin", "counts", "caps", "asleep"]
-
-SIGNATURES = {
-    loads.is_load: ["value"],
-    loads.is_full: ["load"],
-    loads.due_counts: ["load", "process", "moment"],
-    loads.window_of: ["load", "process", "number"],
-    loads.slices_at: ["load", "process", "tick"],
-    loads.windows_within: ["load", "process", "begin", "end"],
-    loads.rest_load: ["load"],
-    plans.is_plan: ["load", "value"],
-    plans.counts_of: ["load", "plan"],
-    plans.lag_numbers: ["load", "plan"],
-    plans.first_off: ["load", "plan"],
-    plans.is_even: ["load", "plan"],
-    plans.extreme_lags: ["load", "plan"],
-    plans.rests_of: ["load", "plan"],
-    plans.far_count: ["load", "plan", "process", "moment"],
-    plans.far_tick: ["load", "plan", "tick"],
-    groups.is_groups: ["load", "value"],
-    groups.group_bounds: ["load", "groups"],
-    groups.first_breach: ["load", "groups", "plan"],
-    groups.group_plan: ["load", "groups"],
-    groups.slice_plan: ["load", "groups", "process", "number", "tick"],
-    cases.is_way: [*CASE, "value"],
-    cases.way_of: CASE,
-    cases.need_of: [*CASE, "process", "ticks"],
-    cases.stuck_ticks: CASE,
-    cases.shows_stuck: [*CASE, "value"],
-    states.can_go_on: ["load", "moment", "counts"],
-    states.can_be_reached: ["load", "moment", "counts"],
-    states.is_state: ["load", "moment", "counts"],
-    states.doomed_by: ["load", "moment", "counts"],
-    states.too_many_since: ["load", "moment", "counts"],
-    states.states_at: ["load", "moment"],
-    rows.early_tick: ["load", "process", "number"],
-    rows.straight_tick: ["load", "process", "shift", "number"],
-    rows.early_plan: ["load", "process"],
-    rows.straight_plan: ["load", "process", "shift"],
-    rows.filled: ["load", "process", "ticks"],
-    rows.full_stretch: ["load", "process", "ticks"],
-}
-
-SINGLE = [function for function in SIGNATURES if OTHER.get(function, {}).get("load") == DULL]
-
-
-def arguments(function, **other):
-    """Return right values for a function, other ones where they are given."""
-    right = {**RIGHT, **OTHER.get(function, {}), **other}
-    return {name: copy.deepcopy(right[name]) for name in SIGNATURES[function]}
-
-
-def lists_in(value):
-    """Return all lists within a value, itself included."""
-    inner = [found for part in value for found in lists_in(part)] if isinstance(value, (list, tuple)) else []
-    return ([value] if isinstance(value, list) else []) + inner
-
+from tests.signatures import (
+    DULL, FOUR, NUMBERS, ROUND, SIGNATURES, SINGLE, TWO_PROCESSORS, WRONG, arguments, lists_in,
+)
 
 class Interface(unittest.TestCase):
     def test_names_of_parameters(self):
@@ -207,13 +114,40 @@ class WrongParameters(unittest.TestCase):
             self.check("plan", value, [errors.InvalidPlan, {"index": index}])
 
     def test_numbers(self):
-        for parameter in ["moment", "number", "tick", "begin", "end", "shift"]:
+        for parameter in NUMBERS:
             for value in NO_NUMBERS:
                 self.check(parameter, value, [errors.InvalidNumber, {}])
 
     def test_groups(self):
         for value, index in [(None, None), ([[0]] * 21, None), ([[4]], 0), ([[0], [0]], 1), ([[0, 1], [1, 2]], 1)]:
             self.check("groups", value, [errors.InvalidGroups, {"index": index}])
+
+    def test_pairs(self):
+        wrong = [
+            *[(value, None) for value in [*NO_LISTS, ((0, 0),), [(0, 0)] * 301, [None] * 301]],
+            *[([value], 0) for value in [None, True, 0, "00", [], [0, 0], {}, (), (0,), (0, 0, 0), (0, None)]],
+            ([("0", 0)], 0),
+            *[([value], 0) for value in [(4, 0), (-1, 0), (BIG, 0), (0, 4), (0, -1), (True, 0), (1, False), (0, BIG)]],
+            *[([(1, 1), value, None], 1) for value in [(1, 1), (1, 0), (0, 3), (4, 0), (2, 4), None, (2,), [2, 0]]],
+            ([(0, 0)] * 300, 1), ([(0, 0), (0, 3), (1, 0), (3, 3), (3, 3)], 4),
+        ]
+        for value, index in wrong:
+            self.check("pairs", value, [errors.InvalidPairs, {"index": index}])
+
+    def test_right_edges_of_pairs(self):
+        every = [(tick, process) for tick in range(4) for process in range(4)]
+        self.assertEqual([counting.most_pairs(FOUR, [], pairs) for pairs in [every, []]], [8, 0])
+        many = [(tick, process) for tick in range(60) for process in range(5)]
+        self.assertEqual(counting.least_pairs((5, 60, [60] * 5), [], many), 300)
+
+    def test_numbers_with_a_greatest_one(self):
+        for number in [2, BIG]:
+            values = {"number": number}
+            for function in [groups.slice_plan, counting.count_with, limits.limit_window]:
+                self.assertEqual(outcome(function, **arguments(function, **values)), [errors.InvalidNumber, {}])
+        for limit in [4, BIG]:
+            for function in [limits.limit_window, limits.limit_plan, limits.limit_ticks, limits.shows_limit]:
+                self.assertEqual(outcome(function, **arguments(function, limit=limit)), [errors.InvalidNumber, {}])
 
     def test_counts(self):
         wrong = [
@@ -332,7 +266,7 @@ class OrderBehindParameters(unittest.TestCase):
                 self.assertEqual(outcome(loads.rest_load, load), [wanted, {}])
 
     def test_not_round_is_behind_the_parameters(self):
-        for function in [plans.far_count, plans.far_tick]:
+        for function in [plans.far_count, plans.far_tick, counting.plan_number]:
             names = SIGNATURES[function]
             for plan in [[], [[0, 1]], ROUND + [[0, 1]], [[0, 1]] * 4]:
                 with self.subTest(function=function.__name__, plan=plan):
