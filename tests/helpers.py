@@ -5,25 +5,33 @@ from itertools import combinations, product
 from math import ceil, floor
 
 from evenslices import errors
+from evenslices.console import Console
+from evenslices.dispatchers import Dispatcher, RestingDispatcher, SureDispatcher, SureRestingDispatcher
 
 BIG = 10 ** 30 - 1
 
+# objects of the package, which are arguments as any other value
+OBJECTS = [
+    errors.SliceError("x"), errors.InvalidLoad(0), Console(), Dispatcher((1, 1, [1])), SureDispatcher((1, 2, [1])),
+    RestingDispatcher((1, 3, [2, 1]), 1), SureRestingDispatcher((1, 6, [3, 2, 1]), 2),
+]
+
 # values that are no integer from 0 on
-NO_NUMBERS = [None, True, False, -1, -BIG, "", "1", [], [1], (), (1,), {}, {"a": 1}, errors.SliceError("x")]
+NO_NUMBERS = [None, True, False, -1, -BIG, "", "1", [], [1], (), (1,), {}, {"a": 1}, *OBJECTS]
 
 # values that are no list
-NO_LISTS = [None, True, False, 0, 7, "", "01", (), ([0],), {}, {"a": [0]}, errors.SliceError("x")]
+NO_LISTS = [None, True, False, 0, 7, "", "01", (), ([0],), {}, {"a": [0]}, *OBJECTS]
 
 # values that are no load, each with its index
 NO_LOADS = [
     *[(value, None) for value in [None, True, False, 0, 6, "", "1 6: 3 2 1", [], [1, 6, [1]], {}, {"a": 1}]],
-    *[(value, None) for value in [(), (1,), (1, 6), (1, 6, [3, 2, 1], 0), ((1, 6, [1]),), errors.SliceError("x")]],
-    *[((value, 6, [1]), 0) for value in [None, True, False, 0, -1, 13, BIG, "1", [1], (1,), {}]],
+    *[(value, None) for value in [(), (1,), (1, 6), (1, 6, [3, 2, 1], 0), ((1, 6, [1]),), *OBJECTS]],
+    *[((value, 6, [1]), 0) for value in [None, True, False, 0, -1, 13, BIG, "1", [1], (1,), {}, *OBJECTS]],
     *[((value, 0, [0]), 0) for value in [None, 0, 13]],
     *[((1, value, [1]), 1) for value in [None, True, False, 0, -6, BIG + 1, 10 ** 40, "6", [6], (6,), {}]],
     *[((1, value, []), 1) for value in [None, 0, BIG + 1]],
     *[((1, 6, value), 2) for value in [*NO_LISTS, (3, 2, 1), [], [1] * 13, [3, 4], [6, 1], [7], [0], [0, 1], [1, 0]]],
-    *[((1, 6, [1, value]), 2) for value in [None, True, False, 0, -1, 7, "1", [1], (1,), {}, BIG]],
+    *[((1, 6, [1, value]), 2) for value in [None, True, False, 0, -1, 7, "1", [1], (1,), {}, BIG, *OBJECTS]],
     ((12, 6, [7]), 2),
     ((12, 1, [1] * 13), 2),
     ((3, 6, [1] * 13), 2),
@@ -37,6 +45,7 @@ NO_LOADS = [
 NO_PLANS = [
     *[(value, None) for value in [*NO_LISTS, ([0, 1], [2, 3]), [[0]] * 1001, [[]] * 1001, [None] * 1001]],
     *[([value], 0) for value in [None, True, 0, "0", (), (0,), {}, [4], [-1], [1, 0], [0, 0], [0, 1, 2], [BIG]]],
+    *[([value], 0) for thing in OBJECTS for value in [thing, [thing], [0, thing]]],
     *[([[0, 1], value, [7]], 1) for value in [(2, 3), [True], [False], [0, True], [None], ["0"], [[0]], [2, 4]]],
     *[([[0]] * at + [[1, 0]] + [[0]] * (999 - at), at) for at in [0, 1, 500, 998, 999]],
 ]
@@ -115,6 +124,15 @@ def drawn_groups(draw, many):
             left += [members[:cut], members[cut:]]
     draw.shuffle(found)
     return found[:20]
+
+
+def plain_failing(base, lags, period, shares):
+    """Return the least m for which the sum of point 26 is above m, or None."""
+    for ticks in range(1, period + 1):
+        dues = [Fraction(lag, base) + Fraction(share * ticks, period) for lag, share in zip(lags, shares)]
+        if sum(max(0, floor(due)) for due in dues) > ticks:
+            return ticks
+    return None
 
 
 def due_ends(share, period, moment):

@@ -2,7 +2,10 @@
 
 import copy
 
-from evenslices import cases, changes, counting, errors, groups, limits, loads, plans, rows, seen, states
+from evenslices import (
+    cases, changes, console, counting, dispatchers, errors, groups, limits, loads, plans, rows, rules, seen, states,
+    texts,
+)
 
 FOUR = (2, 4, [2, 2, 2, 2])
 DULL = (1, 8, [3, 3, 1, 1])
@@ -13,7 +16,7 @@ RIGHT = {
     "groups": [[0, 1], [2, 3], [3]], "counts": [1, 1, 0, 0], "caps": [2, 2, 1], "asleep": [(2, 0)], "ticks": [1, 3],
     "shift": 7, "pairs": [(0, 0), (0, 3), (2, 1)], "limit": 3, "part": 3, "period": 8, "base": 8, "lags": [6, -6, 1],
     "shares": [4, 2, 1], "many": 3, "processors": 2, "seen": [[0, 1], [2]], "one": [[0, 1], [2]], "other": [[1, 2]],
-    "most": 9,
+    "most": 9, "rule": "first end", "text": "2 4: 2 2 2 2", "command": "state",
 }
 
 # right values for functions that want other ones
@@ -28,6 +31,11 @@ OTHER = {
     **{function: {"load": DULL, "ticks": [4]} for function in [
         rows.early_tick, rows.straight_tick, rows.early_plan, rows.straight_plan, rows.filled, rows.full_stretch,
     ]},
+    **{function: {"load": DULL, "rule": "most behind"} for function in [
+        rules.rule_plan, rules.rule_off, rules.rule_lags, dispatchers.Dispatcher, dispatchers.SureDispatcher,
+        dispatchers.RestingDispatcher, dispatchers.SureRestingDispatcher,
+    ]},
+    texts.parse_plan: {"text": "0+1 - 3"},
 }
 
 # values with which the functions for one processor are called with a load for two
@@ -53,6 +61,9 @@ WRONG = {
     "lags": ([1, 2, 8], [errors.InvalidLags, {"index": 2}]),
     "shares": ([4, 5, 0], [errors.InvalidShares, {"index": 1}]),
     **{name: ([[0], [], [9]], [errors.InvalidSeen, {"index": 2}]) for name in ["seen", "one", "other"]},
+    "rule": ("first", [errors.InvalidRule, {}]),
+    "text": (" ", [errors.InvalidSyntax, {"word": 0}]),
+    "command": ("states", [errors.InvalidCommand, {}]),
     **{name: (-1, [errors.InvalidNumber, {}]) for name in NUMBERS},
 }
 
@@ -123,6 +134,18 @@ SIGNATURES = {
     seen.least_period: [*SIGHT, "most"],
     seen.shares_for: [*SIGHT, "most"],
     seen.fit_together: ["processors", "many", "one", "other"],
+    rules.rule_plan: ["load", "rule", "many"],
+    rules.rule_off: ["load", "rule"],
+    rules.rule_lags: ["load", "rule"],
+    dispatchers.Dispatcher: ["load"],
+    dispatchers.SureDispatcher: ["load"],
+    dispatchers.RestingDispatcher: ["load", "most"],
+    dispatchers.SureRestingDispatcher: ["load", "most"],
+    texts.format_load: ["load"],
+    texts.format_plan: ["load", "plan"],
+    texts.parse_load: ["text"],
+    texts.parse_plan: ["load", "text"],
+    console.Console().execute: ["command"],
 }
 
 SINGLE = [function for function in SIGNATURES if OTHER.get(function, {}).get("load") == DULL]

@@ -3,13 +3,12 @@
 import unittest
 from fractions import Fraction
 from itertools import product
-from math import floor
 from random import Random
 
 from evenslices import errors
 from evenslices.changes import can_change, failing_moment, newcomer_share, plan_on
 from evenslices.states import doomed_by
-from tests.helpers import BIG, NO_LISTS, NO_NUMBERS, choices, outcome
+from tests.helpers import BIG, NO_LISTS, NO_NUMBERS, choices, outcome, plain_failing
 
 FUNCTIONS = [failing_moment, can_change, newcomer_share]
 
@@ -19,14 +18,6 @@ def lags_at(base, lags, period, shares, ticks, counts):
         Fraction(lag, base) + Fraction(share * ticks, period) - count
         for lag, share, count in zip(lags, shares, counts)
     ]
-
-
-def plain_failing(base, lags, period, shares):
-    """Return the least m for which the sum of point 26 is above m, or None."""
-    for ticks in range(1, period + 1):
-        if sum(max(0, floor(lag)) for lag in lags_at(base, lags, period, shares, ticks, [0] * len(lags))) > ticks:
-            return ticks
-    return None
 
 
 def tried_failing(base, lags, period, shares):

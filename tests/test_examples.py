@@ -118,9 +118,63 @@ SEEN = """
 [False, True, 3]
 """
 
+RULES = """
+>>> from evenslices.rules import rule_lags, rule_off, rule_plan
+>>> [rule_plan(three, "first end", 6), rule_plan((1, 4, [1, 1]), "first end", 4)]
+[[[0], [1], [0], [1], [0], [2]], [[0], [1], [], []]]
+>>> late = (1, 6, [1, 1, 1, 3])
+>>> [rule_plan(late, "without waiting", 6), rule_off(late, "without waiting"), rule_lags(late, "without waiting")]
+[[[3], [3], [0], [1], [2], [3]], (2, 3), (-6, 4)]
+>>> [rule_plan(three, "most behind", 6), rule_off(three, "most behind")]
+[[[0], [1], [0], [2], [1], [0]], None]
+"""
+
+DISPATCHERS = """
+>>> from evenslices.dispatchers import Dispatcher, RestingDispatcher, SureDispatcher
+>>> desk = Dispatcher(three)
+>>> [[desk.tick() for turn in range(3)], desk.moment, desk.counts, desk.lags, desk.log]
+[[0, 1, 0], 3, [2, 1, 0], [-3, 0, 3], [('give', 0), ('give', 1), ('give', 0)]]
+>>> [desk.give(2), desk.undo(), len(desk), desk.described(), desk.doomed, desk == desk.twin()]
+[None, None, 3, ['moment 3', 'ran 0'], None, True]
+>>> loose = Dispatcher(dull)
+>>> [loose.give(2), loose.give(3), loose.doomed, loose.counts]
+[None, None, 3, [0, 0, 1, 1]]
+>>> resting = RestingDispatcher((1, 4, [3, 1]), 2)
+>>> [[resting.tick() for turn in range(4)], resting.described(), resting.most]
+[[0, 0, 1, 0], ['moment 4', 'ran 0', 'row 1'], 2]
+>>> sure = SureDispatcher(dull)
+>>> sure.give(2)
+>>> sure.give(3)
+raises Doomed(by=3)
+"""
+
+TEXTS = """
+>>> from evenslices.texts import format_load, format_plan, parse_load, parse_plan
+>>> [format_load(pair), format_plan(pair, [[0, 1], [], [2]]), parse_load("1 6: 3 2 1"), parse_plan(pair, "0+2 - 1"), parse_plan(pair, "")]
+['2 3: 2 2 2', '0+1 - 2', (1, 6, [3, 2, 1]), [[0, 2], [], [1]], []]
+>>> parse_load("1 6: 3 2 2")
+raises InvalidSyntax(word=4)
+>>> parse_load("1 6:")
+raises InvalidSyntax(word=2)
+"""
+
+CONSOLE = """
+>>> from evenslices.console import Console
+>>> console = Console()
+>>> [console.execute(command) for command in ["load 1 6: 3 2 1", "run 4", "state", "counts", "lags", "undo", "give 2", "doomed", "off 2 1 0"]]
+['ok', '0 1 0 1', 'moment 4, ran 1', '2 2 0', '0 -4 4', 'ok', 'ok', 'none', '2 0']
+>>> [console.execute("run 2"), console.execute("shares 2 2 2")]
+['0 1', 'ok']
+>>> console.execute("load 2 3: 2 2 2")
+raises NotSingle
+"""
+
 
 class Examples(unittest.TestCase):
     def test_examples(self):
         names = {}
-        for text in [SHARED, LOADS, PLANS, GROUPS, CASES, STATES, ROWS, COUNTING, CHANGES, LIMITS, SEEN]:
+        for text in [
+            SHARED, LOADS, PLANS, GROUPS, CASES, STATES, ROWS, COUNTING, CHANGES, LIMITS, SEEN, RULES, DISPATCHERS,
+            TEXTS, CONSOLE,
+        ]:
             run_examples(self, names, text)

@@ -110,6 +110,9 @@ class Language(unittest.TestCase):
         self.assertIsNone(BARRED_WORDS.search(text))
         for node in ast.walk(tree):
             self.assertNotIsInstance(node, (ast.Div, ast.Global, ast.AsyncFunctionDef, ast.Await))
+            # the package has a class with `__eq__` and `__len__`
+            self.assertNotIsInstance(node, ast.GeneratorExp)
+            self.assertFalse(isinstance(node, ast.Attribute) and node.attr == "sort")
             if isinstance(node, ast.Constant):
                 self.assertNotIsInstance(node.value, (float, complex))
                 self.assertNotIn("%", node.value if isinstance(node.value, str) else "")

@@ -235,7 +235,7 @@ class WrongParameters(unittest.TestCase):
 
 class OrderBehindParameters(unittest.TestCase):
     def test_not_single_is_behind_the_parameters(self):
-        self.assertEqual(len(SINGLE), 12)
+        self.assertEqual(len(SINGLE), 19)
         for function in SINGLE:
             with self.subTest(function=function.__name__):
                 self.assertEqual(outcome(function, **arguments(function, **TWO_PROCESSORS)), [errors.NotSingle, {}])
