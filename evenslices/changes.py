@@ -6,7 +6,7 @@ counted in parts of which the whole, one slice, has base * period.
 
 from evenslices.checks import MOST_PROCESSES, check_number, is_integer, is_integer_from
 from evenslices.errors import Impossible, InvalidLags, InvalidShares
-from evenslices.lagging import failing, first_end, lags_behind, needs
+from evenslices.lagging import ends_of, failing, first_end, lags_behind
 
 MOST_PERIOD = 3000
 MOST_ON = 300
@@ -62,13 +62,14 @@ def newcomer_share(base, lags, period, shares):
     check_change(base, lags, period, shares)
     parts, steps, whole = scaled(base, lags, period, shares)
     best = period - sum(shares)
-    for ticks, need in enumerate(needs(parts, steps, whole, period)):
-        room = ticks - need
+    room = 0
+    # as all lags are below 1, no slice must be there ahead of the first tick
+    for ticks, number in enumerate(ends_of(parts, steps, whole, period)[1:], start=1):
+        room += 1 - number
         if room < 0:
             return None
         # the newcomer needs share * ticks / period slices, rounded down
-        if ticks > 0:
-            best = min(best, ((room + 1) * period - 1) // ticks)
+        best = min(best, ((room + 1) * period - 1) // ticks)
     return best
 
 

@@ -27,7 +27,7 @@ class Dispatcher:
         self._shares = self._first
         self._moment = 0
         self._counts = [0] * len(shares)
-        self._lags = self._counts
+        self._lags = [0] * len(shares)
         # the process of the last tick, and how many ticks it ran one after another
         self._ran = None
         self._row = 0

@@ -47,23 +47,20 @@ def not_even(lags, whole):
     return None
 
 
-def needs(lags, shares, whole, many):
-    """Return for each number of ticks from 0 to many how many slices there must be by the end of them."""
+def ends_of(lags, shares, whole, many):
+    """Return for each number of ticks from 0 to many how many slices must be there just by the end of them."""
     ends = [0] * (many + 1)
     for lag, share in zip(lags, shares):
         for number in range(1, (lag + share * many) // whole + 1):
             ends[rounded_up(number * whole - lag, share)] += 1
-    total = 0
-    found = []
-    for number in ends:
-        total += number
-        found.append(total)
-    return found
+    return ends
 
 
 def failing(lags, shares, whole, many):
     """Return the least number of ticks, up to many, in which there must be more slices than ticks, or None."""
-    for ticks, need in enumerate(needs(lags, shares, whole, many)):
+    need = 0
+    for ticks, number in enumerate(ends_of(lags, shares, whole, many)):
+        need += number
         if need > ticks:
             return ticks
     return None

@@ -149,6 +149,8 @@ class Newcomer(unittest.TestCase):
         self.assertEqual(self.check(8, [-7, -7], 10, [3, 2]), 5)
         self.assertEqual(self.check(8, [7, 6], 10, [4, 1]), 3)
         self.assertIsNone(self.check(8, [7, 7], 10, [3, 2]))
+        # by tick 2 nothing is left, and a newcomer with half of the period would need a slice just there
+        self.assertEqual(self.check(10, [6, 6], 4, [1, 1]), 1)
 
     def test_limits(self):
         self.assertEqual(newcomer_share(BIG, [0] * 12, 3000, [0] * 12), 3000)
